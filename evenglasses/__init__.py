@@ -1,0 +1,1 @@
+"""Evenglasses: glasses of whole measures, any two of which are evened."""
