@@ -2,10 +2,12 @@
 
 import unittest
 
+from evenglasses.ends import alike, ends, fewest_most
 from evenglasses.errors import BadEvening, BadRow
 from evenglasses.rows import evened, evenings, fall, settled
 
 MOST = 1000000
+SMALL_ROW_CALLS = (alike, fewest_most, ends)
 # Too long for Python to write it out as a decimal number.
 HUGE = 10 ** 5000
 
@@ -53,6 +55,16 @@ def no_rows():
     return rows
 
 
+def rows_not_small():
+    """Rows that are no small rows: too many numbers, or one that is too great."""
+    rows = [[0] * 6, [20] * 6, [0, 2, 4, 6, 8, 10], [3] * 7, [0] * 12, [MOST] * 12,
+            [21], [22], [MOST], [21] * 5, [21] * 6, [0, 21], [20, 22], list(range(17, 22))]
+    for great in (21, 22, 100, MOST):
+        for place in range(5):
+            rows.append([0, 2, 20, 2][:place] + [great] + [0, 2, 20, 2][place:])
+    return rows
+
+
 class BadRowTest(unittest.TestCase):
     def refuse(self, call):
         for at, row in enumerate(no_rows()):
@@ -70,6 +82,47 @@ class BadRowTest(unittest.TestCase):
 
     def test_fall(self):
         self.refuse(lambda row: fall(row, (0, 1)))
+
+
+class BadSmallRowTest(unittest.TestCase):
+    def refuse_each(self, several):
+        for function in SMALL_ROW_CALLS:
+            for at, row in enumerate(several):
+                with self.subTest(function=function.__name__, at=at), self.assertRaises(BadRow):
+                    function(row)
+
+    def test_no_rows(self):
+        self.refuse_each(no_rows())
+
+    def test_rows_that_are_not_small(self):
+        self.refuse_each(rows_not_small())
+
+    def test_one_member_of_five_spoils_it(self):
+        several = []
+        for bad in no_measures():
+            for place in range(5):
+                several.append([0, 2, 20, 2][:place] + [bad] + [0, 2, 20, 2][place:])
+        self.refuse_each(several)
+
+    def test_one_member_of_one_or_two_spoils_it(self):
+        for bad in no_measures():
+            self.refuse_each([[bad], [bad, 0], [0, bad]])
+
+    def test_rows_that_are_not_small_are_allowed_elsewhere(self):
+        for row in rows_not_small():
+            with self.subTest(row=row):
+                pairs = evenings(row)
+                self.assertIs(settled(row), pairs == [])
+                for pair in pairs:
+                    self.assertEqual(len(evened(row, pair)), len(row))
+                    self.assertGreater(fall(row, pair), 0)
+
+    def test_what_is_just_within_is_not_refused(self):
+        for row in ([0], [20], [0] * 5, [20] * 5, [0, 20], [20, 0, 20, 0, 20], [1, 19],
+                    [16, 17, 18, 19, 20], [0, 0, 0, 0, 20], [20, 0, 0, 0, 0]):
+            for function in SMALL_ROW_CALLS:
+                with self.subTest(function=function.__name__, row=row):
+                    function(row)
 
 
 class BadEveningTest(unittest.TestCase):
@@ -142,6 +195,36 @@ class OrderTest(unittest.TestCase):
             for function in (evened, fall):
                 with self.assertRaises(BadEvening):
                     function(row, None)
+
+
+class FiveAndTwelveTest(unittest.TestCase):
+    def test_rows_of_five(self):
+        for last, allowed in ((20, True), (21, False), (MOST, False)):
+            row = [0, 2, 4, 20, last]
+            self.assertEqual(evenings(row)[0], (0, 1))
+            self.assertEqual(evened(row, (0, 1)), [1, 1, 4, 20, last])
+            for function in SMALL_ROW_CALLS:
+                if allowed:
+                    function(row)
+                else:
+                    self.assertRaises(BadRow, function, row)
+        for call in (evenings, settled) + SMALL_ROW_CALLS:
+            self.assertRaises(BadRow, call, [0, 2, 4, 20, MOST + 1])
+
+    def test_rows_of_twelve(self):
+        row = [0, 20] * 6
+        self.assertEqual(len(evenings(row)), 36)
+        self.assertEqual(fall(row, (0, 11)), 200)
+        for function in SMALL_ROW_CALLS:
+            self.assertRaises(BadRow, function, row)
+        for call in (evenings, settled) + SMALL_ROW_CALLS:
+            self.assertRaises(BadRow, call, row + [0])
+
+    def test_bad_evening_at_a_row_of_five_and_of_twelve(self):
+        for row in ([0, 2, 4, 20, 21], [0, 20] * 6):
+            for function in (evened, fall):
+                self.assertRaises(BadEvening, function, row, (0, len(row)))
+                self.assertRaises(BadRow, function, row + [MOST + 1], (0, len(row) + 1))
 
 
 class WithinTheLimitsTest(unittest.TestCase):

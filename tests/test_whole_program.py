@@ -5,6 +5,8 @@ import unittest
 from pathlib import Path
 
 import evenglasses
+from evenglasses.answers import Alike, Never
+from evenglasses.ends import alike, ends, fewest_most
 from evenglasses.errors import BadEvening, BadRow
 from evenglasses.rows import evened, evenings, fall, settled
 
@@ -14,10 +16,15 @@ ALLOWED_MODULES = {"heapq", "math", "itertools", "collections", "__future__"}
 
 
 def calls():
-    """The four functions, each as a call of a row whose first two numbers can be evened."""
+    """The functions over rows, each as a call of a row whose first two numbers can be evened."""
     return [evenings, settled,
             lambda row: evened(row, (0, 1)),
             lambda row: fall(row, (0, 1))]
+
+
+def small_calls():
+    """The functions over small rows, what is told by Alike as its list of evenings."""
+    return [lambda row: getattr(alike(row), "evenings", None), fewest_most, ends]
 
 
 class HandedInTest(unittest.TestCase):
@@ -28,6 +35,32 @@ class HandedInTest(unittest.TestCase):
                     before = list(row)
                     call(row)
                     self.assertEqual(row, before)
+
+    def test_small_rows_not_changed(self):
+        for at, call in enumerate(small_calls() + [Never().shows, Alike([(0, 1), (2, 4)]).shows]):
+            for row in ([1, 3], [6, 2, 5, 5, 0], [20, 16, 0, 7, 4], [4, 0, 4, 0], [3, 3]):
+                with self.subTest(at=at, row=row):
+                    before = list(row)
+                    call(row)
+                    self.assertEqual(row, before)
+
+    def test_small_rows_not_changed_where_refused(self):
+        for call in small_calls():
+            for row in ([4, 2, 21], [4, 2, -1], [4, 2, 0, 0, 0, 0]):
+                before = list(row)
+                self.assertRaises(BadRow, call, row)
+                self.assertEqual(row, before)
+
+    def test_small_rows_not_kept(self):
+        row = [0, 2, 1]
+        answer = alike(row)
+        told = [call(row) for call in small_calls()]
+        row[2] = 5
+        self.assertEqual(told, [[(0, 1)], (1, 1), [[1, 1, 1]]])
+        self.assertEqual([call(row) for call in small_calls()],
+                         [None, (3, 3), [[2, 2, 3], [2, 3, 2], [3, 2, 2]]])
+        self.assertIs(answer.shows([0, 2, 1]), True)
+        self.assertIs(answer.shows(row), False)
 
     def test_not_changed_where_refused(self):
         for at, call in enumerate(calls()):
@@ -73,9 +106,39 @@ class ToldTest(unittest.TestCase):
         self.assertIsNot(evened(row, (0, 1)), evened(row, (0, 1)))
 
 
+    def test_alike_is_new_each_time_and_its_field_too(self):
+        row = [0, 0, 4, 4]
+        told = alike(row)
+        wanted = list(told.evenings)
+        self.assertIsNot(alike(row), told)
+        self.assertIsNot(alike(row).evenings, told.evenings)
+        told.evenings.clear()
+        self.assertEqual(alike(row).evenings, wanted)
+        told.evenings = None
+        self.assertEqual(alike(row).evenings, wanted)
+        none = alike([3, 3])
+        none.evenings.append((0, 1))
+        self.assertEqual(alike([3, 3]).evenings, [])
+
+    def test_never_is_new_each_time(self):
+        self.assertIsNot(alike([0, 1]), alike([0, 1]))
+
+    def test_ends_are_new_each_time(self):
+        told = ends([0, 4, 6])
+        told[1].append(9)
+        told.pop()
+        self.assertEqual(ends([0, 4, 6]), [[0, 5, 5], [3, 3, 4], [3, 4, 3], [4, 3, 3]])
+        row = [0, 0, 3]
+        told = ends(row)
+        self.assertIsNot(told[0], row)
+        told[0][0] = 8
+        self.assertEqual(row, [0, 0, 3])
+        self.assertEqual(ends(row), [[0, 0, 3]])
+
+
 class NumbersTest(unittest.TestCase):
     def test_true_and_false_are_no_numbers(self):
-        for call in calls():
+        for call in calls() + small_calls():
             for row in ([True], [False], [True, 3], [3, True], [False, 2], [2, 0, False],
                         [0, 2] * 5 + [0, True]):
                 with self.subTest(row=row), self.assertRaises(BadRow):
@@ -84,6 +147,8 @@ class NumbersTest(unittest.TestCase):
     def test_0_and_1_are_numbers(self):
         self.assertEqual(evenings([0, 1, 2, 3]), [(0, 2), (1, 3)])
         self.assertEqual(evened([0, 1, 2], (0, 2)), [1, 1, 1])
+        self.assertEqual(alike([0, 1, 2]).evenings, [(0, 2)])
+        self.assertEqual(ends([0, 1]), [[0, 1]])
 
 
 class OutsideTest(unittest.TestCase):
